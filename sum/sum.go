@@ -7,8 +7,8 @@ import "escapement/api"
 const fold = 0x82f63b78
 
 // A register is a polynomial over bits, its highest bit the one without x,
-// and to take in a bit 0 is to multiply it by x. So moving on by n bytes is
-// one product, by x to the power 8 n; these are the powers it begins with.
+// and to take in a bit 0 is to multiply it by x. So moving on by n bytes is to
+// multiply by x to the power 8 n; these are the powers 0 and 8.
 const (
 	one  uint32 = 1 << 31
 	byX8 uint32 = one >> 8
