@@ -88,7 +88,7 @@ func oneForm(t *testing.T, b []byte) (plans, ops int) {
 	return plans, ops
 }
 
-// P12.6, P12.3: all rows of up to five bytes out of some that matter.
+// P12.6, P12.3: all rows of up to four bytes out of some that matter, and of five of the kind that has a row of bytes.
 func TestOneForm(t *testing.T) {
 	t.Parallel()
 	some := []byte{0, 1, 2, 4, 8, 9, 10, 16, 127, 128, 129, 255}
