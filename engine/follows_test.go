@@ -165,7 +165,7 @@ func TestCourses(t *testing.T) {
 	t.Parallel()
 	r := chance(1)
 	kinds, whys, ends := map[int]int{}, map[int]int{}, map[int]int{}
-	for range 400 {
+	for range 250 {
 		d, a := begin(t, "P14.1 to P14.7"), newAuditor(t)
 		twin := d.e
 		for range 150 {
@@ -282,7 +282,7 @@ func TestRefused(t *testing.T) {
 	t.Parallel()
 	r := chance(6)
 	codes := map[api.Errno]int{}
-	for range 60 {
+	for range 30 {
 		d := begin(t, "P14.15")
 		plain := New()
 		for range 120 {

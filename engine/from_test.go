@@ -502,7 +502,7 @@ func TestFromSpoilt(t *testing.T) {
 	t.Parallel()
 	r := chance(3)
 	taken, refused := 0, 0
-	for range 500 {
+	for range 300 {
 		d := begin(t, "P14.8")
 		for range 5 + r.Intn(60) {
 			d.do(anyOp(r, d.m))
